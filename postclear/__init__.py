@@ -1,0 +1,1 @@
+"""Settling between houses: statements, disputes, and the fewest payments."""
