@@ -1,4 +1,4 @@
-"""What the houses have between them: the day, rates, moneys and statements."""
+"""What the houses have between them: the day, rates, moneys, statements and payments."""
 
 SENT = 1
 DISPUTED = 2
@@ -49,6 +49,19 @@ class Statement:
             self.agree_on(self.mean_with(self.figure))
 
 
+class Payment:
+    def __init__(self, payer, payee, amount):
+        self.payer = payer
+        self.payee = payee
+        self.amount = amount
+
+
+def shift_positions(positions, giver, taker, amount):
+    """Whoever gives, by service or by paying, is owed that much more, and the taker that much less."""
+    positions[giver] = positions[giver] + amount
+    positions[taker] = positions[taker] - amount
+
+
 class Book:
     """All that the calls of one list read and change."""
 
@@ -61,6 +74,7 @@ class Book:
         self.rates = [Rates(0, 0, 0) for house in range(houses)]
         self.moneys = {}
         self.statements = []
+        self.payments = []
 
     def has_house(self, house):
         return 1 <= house <= self.houses
@@ -86,3 +100,31 @@ class Book:
 
     def find_statement(self, number):
         return self.statements[number - 1]
+
+    def agreed_statements(self):
+        return [statement for statement in self.statements if statement.state == AGREED]
+
+    def take_payment(self, payment):
+        self.payments.append(payment)
+
+    def debt_of(self, house, other):
+        """What the house owes the other."""
+        debt = 0
+        for statement in self.agreed_statements():
+            if statement.sender == other and statement.receiver == house:
+                debt = debt + statement.figure
+        for payment in self.payments:
+            if payment.payer == house and payment.payee == other:
+                debt = debt - payment.amount
+        return debt
+
+    def reckon_positions(self):
+        """A dict of every house's position, houses rising."""
+        positions = {}
+        for house in range(1, self.houses + 1):
+            positions[house] = 0
+        for statement in self.agreed_statements():
+            shift_positions(positions, statement.sender, statement.receiver, statement.figure)
+        for payment in self.payments:
+            shift_positions(positions, payment.payer, payment.payee, payment.amount)
+        return positions

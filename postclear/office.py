@@ -4,12 +4,14 @@ Each call has a function of its own, which takes the book and the call's argumen
 gives back the numbers that are answered; a refusal is one number below 0.
 """
 
-from postclear.book import Book, DISPUTED, Rates, SENT
+from postclear.book import Book, DISPUTED, Payment, Rates, SENT, shift_positions
 from postclear.call_list import CallList
 from postclear.reckoning import full_figure
-from postclear.wording import read_text
+from postclear.settlement import part_into_groups, plan_payments
+from postclear.wording import read_text, written
 
 OUT_OF_RANGE = -1
+WRONG_ROW = -2
 NO_RATE = -3
 NOT_THERE = -4
 NOT_NOW = -6
@@ -28,6 +30,10 @@ MOST_BYTES = 1000
 MOST_STATEMENTS = 100
 MOST_FIGURE = 1000000000000
 CLOSE_ENOUGH = 20
+MOST_PAYMENTS = 400
+MOST_AMOUNT = 1000000000000
+MOST_JUDGED_AMOUNT = 1000000000000000
+MOST_TOLD = 50
 
 
 def begin(book, arguments):
@@ -70,12 +76,10 @@ def go_on_days(book, arguments):
 
 
 def send(book, arguments):
-    text = arguments[0]
-    if len(text) > MOST_BYTES:
-        return [OUT_OF_RANGE]
-    reading = read_text(text)
-    if reading.wrong_line > 0:
-        return [WRONG_LINE - reading.wrong_line]
+    reading = read_text(arguments[0])
+    refusal = refusal_of_text(arguments[0], reading)
+    if refusal < 0:
+        return [refusal]
     if not (book.has_house(reading.sender) and book.has_house(reading.receiver)):
         return [NOT_THERE]
     if lacks_money_rate(book, reading.entries):
@@ -86,7 +90,7 @@ def send(book, arguments):
     if len(book.statements) >= MOST_STATEMENTS:
         return [TOO_MANY]
     number = book.take_statement(reading.sender, reading.receiver, full)
-    return [number, 1, full]
+    return [number] + as_row([full])
 
 
 def lacks_money_rate(book, entries):
@@ -115,7 +119,7 @@ def dispute(book, arguments):
         statement.agree_on(statement.mean_with(other))
     else:
         statement.dispute_since(book.day, other)
-    return [statement.state, 1, statement.figure]
+    return [statement.state] + as_row([statement.figure])
 
 
 def yield_to_other(book, arguments):
@@ -138,7 +142,136 @@ def tell_statement(book, arguments):
     statement = book.find_statement(arguments[0])
     row = [statement.sender, statement.receiver, statement.day]
     row.extend([statement.full, statement.since, statement.figure])
-    return [statement.state, len(row)] + row
+    return [statement.state] + as_row(row)
+
+
+def tell_debt(book, arguments):
+    house = arguments[0]
+    other = arguments[1]
+    if not (book.has_house(house) and book.has_house(other)):
+        return [NOT_THERE]
+    return [0] + as_row([book.debt_of(house, other)])
+
+
+def tell_position(book, arguments):
+    house = arguments[0]
+    if not book.has_house(house):
+        return [NOT_THERE]
+    positions = book.reckon_positions()
+    return [0] + as_row([positions[house]])
+
+
+def tell_plan(book, arguments):
+    plan = plan_payments(book.reckon_positions())
+    return [len(plan)] + as_row(in_threes(plan)) + as_row([sum_of(plan)])
+
+
+def pay(book, arguments):
+    payment = Payment(arguments[0], arguments[1], arguments[2])
+    if not 1 <= payment.amount <= MOST_AMOUNT:
+        return [OUT_OF_RANGE]
+    if not (book.has_house(payment.payer) and book.has_house(payment.payee)):
+        return [NOT_THERE]
+    if payment.payer == payment.payee:
+        return [NOT_NOW]
+    if len(book.payments) >= MOST_PAYMENTS:
+        return [TOO_MANY]
+    book.take_payment(payment)
+    return [len(book.payments)]
+
+
+def settle(book, arguments):
+    plan = plan_payments(book.reckon_positions())
+    if len(plan) == 0:
+        return [NOT_NOW]
+    if len(book.payments) + len(plan) > MOST_PAYMENTS:
+        return [TOO_MANY]
+    for payment in plan:
+        book.take_payment(payment)
+    return [len(plan)] + as_row(in_threes(plan))
+
+
+def judge(book, arguments):
+    row = arguments[0]
+    if len(row) % 3 != 0:
+        return [WRONG_ROW]
+    payments = [Payment(row[place], row[place + 1], row[place + 2]) for place in range(0, len(row), 3)]
+    positions = book.reckon_positions()
+    for payment in payments:
+        if not can_be_judged(book, payment):
+            return [WRONG_ROW]
+        shift_positions(positions, payment.payer, payment.payee, payment.amount)
+    still_open = [house for house in positions if positions[house] != 0]
+    settled = 1 if len(still_open) == 0 else 0
+    return [settled] + as_row(list(positions.values())) + as_row([sum_of(payments)])
+
+
+def can_be_judged(book, payment):
+    if not (book.has_house(payment.payer) and book.has_house(payment.payee)):
+        return False
+    return payment.payer != payment.payee and 1 <= payment.amount <= MOST_JUDGED_AMOUNT
+
+
+def read_out(book, arguments):
+    reading = read_text(arguments[0])
+    refusal = refusal_of_text(arguments[0], reading)
+    if refusal < 0:
+        return [refusal]
+    return [len(reading.entries)] + as_row(written(reading))
+
+
+def tell_payments(book, arguments):
+    first = arguments[0]
+    if not 1 <= first <= MOST_PAYMENTS:
+        return [OUT_OF_RANGE]
+    payments = book.payments[first - 1:first - 1 + MOST_TOLD]
+    answer = [len(payments)]
+    for payment in payments:
+        answer.extend(as_row(in_threes([payment])))
+    return answer
+
+
+def tell_groups(book, arguments):
+    positions = book.reckon_positions()
+    groups = part_into_groups(positions)
+    answer = [len(groups)]
+    for group in groups:
+        row = []
+        for house in group:
+            row.extend([house, positions[house]])
+        answer.extend(as_row(row))
+    return answer
+
+
+def tell_counts(book, arguments):
+    row = [book.houses, len(book.moneys), len(book.statements)]
+    row.extend([len(book.agreed_statements()), len(book.payments)])
+    return [book.day] + as_row(row)
+
+
+def as_row(numbers):
+    return [len(numbers)] + numbers
+
+
+def in_threes(payments):
+    """Payer, payee and amount of each, one behind another."""
+    numbers = []
+    for payment in payments:
+        numbers.extend([payment.payer, payment.payee, payment.amount])
+    return numbers
+
+
+def sum_of(payments):
+    return sum([payment.amount for payment in payments])
+
+
+def refusal_of_text(text, reading):
+    """The refusal if the text is too long or has a wrong line, else 0."""
+    if len(text) > MOST_BYTES:
+        return OUT_OF_RANGE
+    if reading.wrong_line > 0:
+        return WRONG_LINE - reading.wrong_line
+    return 0
 
 
 def agree_on_full(book, number, state):
@@ -179,6 +312,16 @@ CALLS = {
     7: (yield_to_other, 1, 0),
     8: (stand_on_full, 1, 0),
     9: (tell_statement, 1, 0),
+    10: (tell_debt, 2, 0),
+    11: (tell_position, 1, 0),
+    12: (tell_plan, 0, 0),
+    13: (pay, 3, 0),
+    14: (settle, 0, 0),
+    15: (judge, 0, 1),
+    16: (read_out, 0, 1),
+    17: (tell_payments, 1, 0),
+    18: (tell_groups, 0, 0),
+    19: (tell_counts, 0, 0),
 }
 
 

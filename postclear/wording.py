@@ -1,4 +1,4 @@
-"""Reads a statement's text, which is a list of bytes."""
+"""Reads and writes a statement's text, which is a list of bytes."""
 
 LINE_END = 10
 BLANK = 32
@@ -47,6 +47,17 @@ def read_text(text):
     if len(reading.entries) == 0:
         reading.wrong_line = len(lines) + 1
     return reading
+
+
+def written(reading):
+    """The text of a right reading, without a blank or line end too many."""
+    lines = [line_of("FROM", [reading.sender]), line_of("TO", [reading.receiver])]
+    lines.extend([line_of(entry.name, entry.numbers) for entry in reading.entries])
+    return bytes_of("\n".join(lines))
+
+
+def line_of(name, numbers):
+    return " ".join([name] + [str(number) for number in numbers])
 
 
 def take_line(reading, place, words):
@@ -120,5 +131,5 @@ def parts_between(numbers, mark):
     return parts
 
 
-def bytes_of(name):
-    return [ord(sign) for sign in name]
+def bytes_of(signs):
+    return [ord(sign) for sign in signs]

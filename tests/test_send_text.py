@@ -1,8 +1,8 @@
-"""send: the statement's text and the refusals."""
+"""send and read: which texts are right, and which line is wrong; send: the refusals."""
 
 import unittest
 
-from tests.helper import (OfficeTest, PLAIN_MONEY, begin, last, money, rates, send, send_figure, text_of)
+from tests.helper import (OfficeTest, PLAIN_MONEY, ask, begin, last, money, rates, read, send, send_figure, text_of)
 
 HEAD = "FROM 1\nTO 2\n"
 SET_UP = [begin(10), PLAIN_MONEY]
@@ -10,7 +10,9 @@ SET_UP = [begin(10), PLAIN_MONEY]
 
 class RightTexts(OfficeTest):
     def assert_right(self, text):
-        self.assertEqual(last(*SET_UP, send(text))[:2], [1, 1], text)
+        told = ask(*SET_UP, send(text), read(text))
+        self.assertEqual(told[-2][:2], [1, 1], text)
+        self.assertEqual(told[-1][0], 1, text)
 
     def test_each_entry_alone(self):
         for entry in ("DUES 5 1 1", "TRANSIT 1 1", "ORDERS 1 1"):
@@ -47,7 +49,8 @@ class RightTexts(OfficeTest):
 
 class WrongLines(OfficeTest):
     def assert_wrong(self, line, text):
-        self.assertEqual(last(*SET_UP, send(text)), [-1000 - line], text)
+        told = ask(*SET_UP, send(text), read(text))
+        self.assertEqual(told[-2:], [[-1000 - line]] * 2, text)
 
     def test_an_empty_text(self):
         self.assert_refused(SET_UP, send(""), -1001)
@@ -136,7 +139,9 @@ class WrongLines(OfficeTest):
         for byte in range(256):
             text = list((HEAD + "DUES 1").encode()) + [byte] + list(b"1 1 1")
             expected = {10: [-1003], 32: [-1003]}.get(byte, [1, 1, 0] if 48 <= byte <= 57 else [-1003])
-            self.assertEqual(last(*SET_UP, send(text)), expected, byte)
+            told = ask(*SET_UP, send(text), read(text))
+            self.assertEqual(told[-2], expected, byte)
+            self.assertEqual(told[-1][0], expected[0], byte)
 
     def test_bytes_above_127(self):
         for byte in (128, 160, 178, 194, 255):
